@@ -1,0 +1,1 @@
+"""Headsgrow: trees whose heads are cut and grow back, and their worths."""
