@@ -1,1 +1,1 @@
-"""Headsgrow: trees whose heads are cut and grow back, and their worths."""
+"""Headsgrow: trees whose heads are cut and grow back, and numbers written by a base that grows."""

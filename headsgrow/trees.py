@@ -8,8 +8,7 @@ MOST_ABOVE = 40
 
 def told(tree):
     """The tree with its branches from the one that is worth most on, within them likewise."""
-    if not is_tree(tree):
-        raise BadTree("no list of trees within 300 knots, none of them within more than 40 others")
+    refuse_no_tree(tree)
     return _in_order(tree)
 
 
@@ -31,6 +30,12 @@ def behind(one, other):
     first, second = told(one), told(other)
     kept = [branch for branch in first if not second or branch >= second[0]]
     return _answer(kept + second)
+
+
+def refuse_no_tree(thing):
+    """Raises BadTree if the thing is no tree to be asked with."""
+    if not is_tree(thing):
+        raise BadTree("no list of trees within 300 knots, none of them within more than 40 others")
 
 
 def is_tree(thing):

@@ -3,6 +3,8 @@
 from functools import cmp_to_key
 
 NO_LISTS = (None, (), ([],), "", "[]", b"", 0, 1, 41, -3, 1.5, True, False, {}, {"a": []}, {0: 0})
+NO_WHOLE_NUMBERS = (None, True, False, "", "0", "2", b"2", 0.0, 2.0, 2.5, 1e300, float("nan"), 2j,
+                    [], [2], (), (2,), {}, {2: 2}, {2}, range(2), object())
 
 
 def within(others, knot):

@@ -1,8 +1,11 @@
-"""Point [1]: what is no tree to be asked with is refused by all four, on either side."""
+"""Point [1]: what is no tree to be asked with is refused at every door that takes one."""
 
 import unittest
 
-from headsgrow.errors import BadTree
+from headsgrow.bases import number_of
+from headsgrow.cutting import cut, heads
+from headsgrow.errors import BadTree, BadWay
+from headsgrow.texts import read, text
 from headsgrow.trees import behind, compare, together, told
 from tests.helper import NO_LISTS, Checks, deep, wide, within
 
@@ -11,7 +14,10 @@ OF_TWO = (compare, together, behind)
 
 class BadTrees(Checks, unittest.TestCase):
     def assert_no_tree(self, bad):
-        self.assert_refused(BadTree, told, bad)
+        for asked in (told, heads, text):
+            self.assert_refused(BadTree, asked, bad)
+        self.assert_refused(BadTree, cut, bad, [0], 1)
+        self.assert_refused(BadTree, number_of, bad, 1000)
         for asked in OF_TWO:
             for good in ([], [[], [[]]], wide(300), deep(40)):
                 self.assert_refused(BadTree, asked, bad, good)
@@ -19,7 +25,10 @@ class BadTrees(Checks, unittest.TestCase):
             self.assert_refused(BadTree, asked, bad, bad)
 
     def assert_a_tree(self, good):
-        told(good)
+        self.assertEqual(read(text(good)), told(good))
+        for way in heads(good)[:1]:
+            self.assertEqual(compare(good, cut(good, way, 0)), 1)
+        self.assert_refused(BadWay, cut, good, [], 0)
         for asked in OF_TWO:
             asked(good, [])
             asked([], good)
